@@ -1,0 +1,1 @@
+"""Lostleast: plans with the least regret and the greatest share, whatever comes."""

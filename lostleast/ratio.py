@@ -1,0 +1,45 @@
+"""Exact fractions."""
+
+from math import gcd
+
+from lostleast.errors import BadRatio
+
+
+class Ratio:
+    """A fraction: a numerator and a positive denominator in lowest terms."""
+
+    def __init__(self, num, den=1):
+        if den <= 0:
+            raise BadRatio("a denominator must be positive")
+        common = gcd(num, den)
+        self.num = num // common
+        self.den = den // common
+
+    def __add__(self, other):
+        return Ratio(self.num * other.den + other.num * self.den, self.den * other.den)
+
+    def __sub__(self, other):
+        return Ratio(self.num * other.den - other.num * self.den, self.den * other.den)
+
+    def __mul__(self, other):
+        return Ratio(self.num * other.num, self.den * other.den)
+
+    def __eq__(self, other):
+        return isinstance(other, Ratio) and self.num == other.num and self.den == other.den
+
+    def __str__(self):
+        if self.den == 1:
+            return str(self.num)
+        return f"{self.num}/{self.den}"
+
+    def less(self, other):
+        """Whether this fraction is less than the other one."""
+        return self.num * other.den < other.num * self.den
+
+    def over(self, other):
+        """The quotient of this fraction and the other one."""
+        if other.num == 0:
+            raise BadRatio("no fraction is divided by 0")
+        # A denominator must be positive, so the sign of the other one moves to the numerator.
+        sign = 1 if other.num > 0 else -1
+        return Ratio(sign * self.num * other.den, self.den * abs(other.num))

@@ -1,0 +1,38 @@
+"""The words of texts: key words, names and numbers."""
+
+CHANCES = ("draw", "choose", "come")
+SEATS = ("chooser", "comer")
+STATEMENTS = ("set", "draw", "choose", "come", "show", "pay", "take", "if")
+KEY_WORDS = (
+    "var", "set", "draw", "choose", "come", "show", "chooser", "comer",
+    "pay", "take", "if", "else", "end", "mod",
+)
+OPERATORS = ("+", "-", "*", "/", "mod", "<", "=")
+
+LETTERS = "abcdefghijklmnopqrstuvwxyz"
+DIGITS = "0123456789"
+LONGEST_NAME = 8
+LONGEST_NUMBER = 5
+LARGEST_NUMBER = 65535
+
+
+def words_of(text):
+    """The parts of a text between single spaces; the empty text has none."""
+    return text.split(" ") if text else []
+
+
+def is_made_of(word, signs):
+    """Whether all signs of a word are among some signs."""
+    return all([sign in signs for sign in word])
+
+
+def is_name(word):
+    """Whether a word may name a variable."""
+    return 1 <= len(word) <= LONGEST_NAME and is_made_of(word, LETTERS) and word not in KEY_WORDS
+
+
+def is_number(word):
+    """Whether a word writes a number that a game may contain."""
+    if not 1 <= len(word) <= LONGEST_NUMBER or not is_made_of(word, DIGITS):
+        return False
+    return (word == "0" or word[0] != "0") and int(word) <= LARGEST_NUMBER
