@@ -32,7 +32,8 @@ class BoundsTest(unittest.TestCase):
         self.assertGame("var x 1")
         self.assertGame("var x 10")
         self.assertGame("var x 65535")
-        for size in ("0", "00", "01", "002", "65536", "65540", "66000", "70000", "99999", "100000", "-1", "+1", "x", "1x"):
+        for size in ("0", "00", "01", "002", "65536", "65540", "66000", "70000", "99999", "100000",
+                     "-1", "+1", "x", "1x"):
             self.assertWrong("var x " + size, 2)
             self.assertWrong("var x " + size + " pay 1", 2)
 
@@ -52,8 +53,8 @@ class BoundsTest(unittest.TestCase):
                 text = "var " + name + " 2 set " + name + " + 1 " + name
                 self.assertGame(text)
                 self.assertEqual(read_game(text).variables, ((name, 2),))
-        for name in ("abcdefghi", "abcdefghijklmnop", "X", "Ab", "aB", "x1", "1x", "1", "x_", "_x", "x-y", "x.", "{", "`",
-                     "+", "<", "~", "@"):
+        for name in ("abcdefghi", "abcdefghijklmnop", "X", "Ab", "aB", "x1", "1x", "1", "x_", "_x", "x-y", "x.",
+                     "{", "`", "+", "<", "~", "@"):
             self.assertWrong("var " + name + " 2", 1)
 
     def test_key_words_are_no_names(self):

@@ -214,7 +214,8 @@ class EqualTest(unittest.TestCase):
     def test_not_equal_otherwise(self):
         game = read_game("var x 2 var y 3 pay x")
         for text in ("var x 2 var y 3 pay y", "var x 2 var y 3 take x", "var x 2 var y 3", "var x 2 var y 4 pay x",
-                     "var x 2 pay x", "var y 3 var x 2 pay x", "var x 2 var z 3 pay x", "var x 2 var y 3 pay x pay x", ""):
+                     "var x 2 pay x", "var y 3 var x 2 pay x", "var x 2 var z 3 pay x",
+                     "var x 2 var y 3 pay x pay x", ""):
             with self.subTest(text):
                 self.assertFalse(game == read_game(text))
                 self.assertFalse(read_game(text) == game)

@@ -51,7 +51,8 @@ PARTS = (
     "come@statement p@variable 8@many",
     "show@statement chooser@seat +@value x@value 1@value",
     "show@statement comer@seat abcdefgh@value",
-    "pay@statement mod@value <@value =@value -@value *@value 9@leaf p@leaf /@value 1@leaf y@leaf x@value 8@value 1@value",
+    "pay@statement mod@value <@value =@value -@value *@value 9@leaf p@leaf /@value 1@leaf y@leaf "
+    "x@value 8@value 1@value",
     "take@statement 65535@value",
     "if@statement x@value end@then",
     "if@statement +@value x@value 1@value pay@then 1@value else@then take@else 1@value end@behind_else",
