@@ -1,4 +1,6 @@
-"""The words of texts: key words, names and numbers."""
+"""The words of texts: key words, names, numbers and fractions."""
+
+from lostleast.ratio import Ratio
 
 CHANCES = ("draw", "choose", "come")
 SEATS = ("chooser", "comer")
@@ -14,6 +16,7 @@ DIGITS = "0123456789"
 LONGEST_NAME = 8
 LONGEST_NUMBER = 5
 LARGEST_NUMBER = 65535
+LONGEST_PART = 60
 
 
 def words_of(text):
@@ -36,3 +39,21 @@ def is_number(word):
     if not 1 <= len(word) <= LONGEST_NUMBER or not is_made_of(word, DIGITS):
         return False
     return (word == "0" or word[0] != "0") and int(word) <= LARGEST_NUMBER
+
+
+def fraction_of(word):
+    """The fraction that a word writes, or None if it writes none."""
+    parts = word.split("/")
+    if not all([is_part(part) for part in parts]):
+        return None
+    den = int(parts[1]) if len(parts) > 1 else 1
+    if den == 0:
+        return None
+    ratio = Ratio(int(parts[0]), den)
+    # What has leading zeros, a third part or the denominator 1 or is not in lowest terms is written differently.
+    return ratio if str(ratio) == word else None
+
+
+def is_part(word):
+    """Whether a word may be a part of a fraction, but for leading zeros."""
+    return 1 <= len(word) <= LONGEST_PART and is_made_of(word, DIGITS)
