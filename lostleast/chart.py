@@ -3,7 +3,7 @@
 from lostleast.plans import coming_choices, sure
 from lostleast.ratio import Ratio
 from lostleast.routes import Outline
-from lostleast.sums import made_whole, product_sum
+from lostleast.sums import made_whole, product_sum, ratio_sum
 
 
 class Chart:
@@ -36,9 +36,21 @@ class Chart:
         """Hindsight less the average of a plan, for each coming."""
         return [top - paid for top, paid in zip(self.hindsights, self.averages(plan))]
 
+    def regret(self, plan):
+        """The greatest difference of a plan."""
+        greatest, *others = self.differences(plan)
+        for difference in others:
+            if greatest.less(difference):
+                greatest = difference
+        return greatest
+
+    def fits(self, pairs):
+        """Whether pairs consist of comings of the game and of weights that are not negative."""
+        for coming, weight in pairs:
+            if weight.num < 0 or coming not in self.comings:
+                return False
+        return True
+
     def weighted_hindsight(self, pairs):
         """The sum of hindsights for comings, each times its weight."""
-        total = Ratio(0)
-        for coming, weight in pairs:
-            total = total + weight * self.hindsights[self.comings.index(coming)]
-        return total
+        return ratio_sum([weight * self.hindsights[self.comings.index(coming)] for coming, weight in pairs])

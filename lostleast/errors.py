@@ -49,7 +49,7 @@ class NoPlan(LossError):
     """A bound that no plan keeps; `least` is the least regret, a Ratio."""
 
     def __init__(self, least):
-        LossError.__init__(self, f"no plan has less regret than {least}")
+        LossError.__init__(self, "no plan has so little regret")
         self.least = least
 
 

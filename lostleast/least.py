@@ -5,7 +5,7 @@ from lostleast.errors import NoShare
 from lostleast.mixture import best_mixture
 from lostleast.plans import Answer, plan_on
 from lostleast.ratio import Ratio
-from lostleast.sums import row_sum
+from lostleast.sums import ratio_sum, row_sum
 from lostleast.tree import ends_of
 
 
@@ -21,21 +21,13 @@ class Found:
 
 def regret_of(tree, plan):
     """The greatest difference, over all comings, of hindsight less the average of a plan of the chooser."""
-    return greatest_regret(Chart(tree), plan)
+    return Chart(tree).regret(plan)
 
 
 def worst_for(tree, plan):
     """The first coming with which a plan of the chooser has its regret."""
     chart = Chart(tree)
-    return chart.comings[chart.differences(plan).index(greatest_regret(chart, plan))]
-
-
-def greatest_regret(chart, plan):
-    greatest, *others = chart.differences(plan)
-    for difference in others:
-        if greatest.less(difference):
-            greatest = difference
-    return greatest
+    return chart.comings[chart.differences(plan).index(chart.regret(plan))]
 
 
 def share_of(tree, plan):
@@ -64,7 +56,11 @@ def has_debts(tree):
 
 def least_regret(tree):
     """The least regret of a game."""
-    chart = Chart(tree)
+    return charted_regret(Chart(tree))
+
+
+def charted_regret(chart):
+    """The least regret of the game of a chart."""
     # A plan's number for a coming is its difference and 1 more, so that none is 0, and the limits are 1. If the
     # greatest mixture is grown to the sum 1, its limits grow to its regret and 1 more.
     mixture = best_mixture(chart.outline, chart.taken, [top + 1 for top in chart.tops], [1] * len(chart.tops))
@@ -90,8 +86,7 @@ def greatest_share(tree):
 def mixed_plan(routes, mixture):
     """The plan that is paid like a lot over the plans of a mixture."""
     parts = mixture.labelled()
-    taken = [routes.taken_by(choices) for choices, _ in parts]
-    return plan_on(routes, row_sum(taken, [size for _, size in parts], routes.many))
+    return plan_on(routes, row_sum([taken for taken, _ in parts], [size for _, size in parts], routes.many))
 
 
 def above_0(some, weights):
@@ -102,19 +97,16 @@ def above_0(some, weights):
 def holds(tree, found):
     """Whether what was found is shown by its own plan and weights."""
     chart = Chart(tree)
-    for coming, weight in found.weights:
-        if weight.num < 0 or coming not in chart.comings:
-            return False
+    if not chart.fits(found.weights):
+        return False
     if found.kind == "regret":
         return regret_holds(tree, chart, found)
     return found.kind == "share" and share_holds(tree, chart, found)
 
 
 def regret_holds(tree, chart, found):
-    total = Ratio(0)
-    for _, weight in found.weights:
-        total = total + weight
-    if total != Ratio(1) or found.value.less(greatest_regret(chart, found.plan)):
+    total = ratio_sum([weight for _, weight in found.weights])
+    if total != Ratio(1) or found.value.less(chart.regret(found.plan)):
         return False
     lost = chart.weighted_hindsight(found.weights) - Answer(tree, found.weights).paid
     return not lost.less(found.value)

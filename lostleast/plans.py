@@ -98,11 +98,7 @@ class Answer:
 
     def __init__(self, tree, pairs):
         outline = Outline(tree)
-        sums = [Ratio(0)] * outline.comer.many
-        for plan, weight in pairs:
-            chances = outline.comer.chances_of(plan)
-            sums = [total + weight * chance for total, chance in zip(sums, chances)]
-        weights, factor = made_whole(sums)
+        weights, factor = made_whole(outline.comer.weighted_chances(pairs))
         paid, choices = outline.chooser.best(outline.worths_to_chooser(weights))
         self.paid = Ratio(paid, outline.scale * factor)
         self._best = sure(outline.chooser.views, choices)

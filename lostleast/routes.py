@@ -38,6 +38,13 @@ class Routes:
             chances.extend([chances[before] * lot for lot in plan.lots_at(view, moves)])
         return chances
 
+    def weighted_chances(self, pairs):
+        """For each route the sum of its chances by some plans, each times the weight of the plan."""
+        sums = [Ratio(0)] * self.many
+        for plan, weight in pairs:
+            sums = [total + weight * chance for total, chance in zip(sums, self.chances_of(plan))]
+        return sums
+
     def taken_by(self, choices):
         """For each route 1 or 0: whether the plan takes it that makes these moves at the views."""
         taken = [1]

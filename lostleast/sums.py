@@ -1,6 +1,8 @@
-"""Sums of whole numbers, and fractions made whole."""
+"""Sums of whole numbers and of fractions, and fractions made whole."""
 
 from math import lcm
+
+from lostleast.ratio import Ratio
 
 
 def made_whole(ratios):
@@ -9,6 +11,14 @@ def made_whole(ratios):
     for ratio in ratios:
         factor = lcm(factor, ratio.den)
     return [ratio.num * (factor // ratio.den) for ratio in ratios], factor
+
+
+def ratio_sum(ratios):
+    """The sum of fractions."""
+    total = Ratio(0)
+    for ratio in ratios:
+        total = total + ratio
+    return total
 
 
 def product_sum(numbers, others):

@@ -38,7 +38,17 @@ def is_number(word):
     """Whether a word writes a number that a game may contain."""
     if not 1 <= len(word) <= LONGEST_NUMBER or not is_made_of(word, DIGITS):
         return False
-    return (word == "0" or word[0] != "0") and int(word) <= LARGEST_NUMBER
+    return begins_rightly(word) and int(word) <= LARGEST_NUMBER
+
+
+def begins_rightly(word):
+    """Whether some digits have no leading zero."""
+    return word == "0" or word[0] != "0"
+
+
+def is_long_number(word):
+    """Whether a word writes a number that may stand in the line of a plan."""
+    return is_part(word) and begins_rightly(word)
 
 
 def fraction_of(word):

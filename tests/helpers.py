@@ -82,6 +82,35 @@ def choices(made):
     return tuple(found)
 
 
+def assert_form(case, root, found):
+    """That a plan and weights that were found have the form that the interface tells."""
+    case.assertIsInstance(found.value, Ratio)
+    case.assertIsInstance(found.plan, Plan)
+    case.assertEqual([(view, len(lots)) for view, lots in found.plan.entries()], views_of(root, "chooser"))
+    case.assertIs(type(found.weights), list)
+    case.assertTrue(all(type(pair) is tuple and len(pair) == 2 for pair in found.weights))
+    every = all_pure(root, "comer")
+    places = [every.index(coming) for coming, _ in found.weights]
+    case.assertEqual(places, sorted(set(places)))
+    for _, weight in found.weights:
+        case.assertIsInstance(weight, Ratio)
+        case.assertGreater(weight.num, 0)
+
+
+def no_comings(root, coming):
+    """Plans that are no comings of a game with two views of the comer, but nearly this one."""
+    entries = coming.entries()
+    return [
+        Plan(entries[::-1]), Plan(entries[:1]), Plan(entries[1:]), Plan([]),
+        Plan(entries + [((("asked", 5, 2),), ratios("1 0"))]),
+        Plan([entries[0], (entries[1][0], ratios("1/2 1/2"))]),
+        Plan([entries[0], (entries[1][0], ratios("0 1 0"))]),
+        Plan([entries[0], (entries[1][0], ratios("1"))]),
+        Plan([((("asked", 5, 2),), ratios("1 0")), entries[1]]),
+        pure(root, "chooser", 0),
+    ]
+
+
 def slow_average(root, chooser, comer):
     """The average, node by node."""
     plans = {"chooser": dict(chooser.entries()), "comer": dict(comer.entries())}

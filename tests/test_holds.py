@@ -8,7 +8,7 @@ from lostleast.plans import Plan
 from lostleast.ratio import Ratio
 from lostleast.tree import End, Move, views_of
 from tests.games import SMALL, WITHOUT_SHARE, random_trees
-from tests.helpers import plan, pure, ratio, ratios, told, tree
+from tests.helpers import no_comings, plan, pure, ratio, ratios, told, tree
 
 MATCH = "var x 3 var y 3 come x 3 choose y 3 if = x y pay + 1 x end"
 # Two views of the comer, who sees what is drawn; the chooser sees nothing.
@@ -174,20 +174,10 @@ class HoldsTest(unittest.TestCase):
     def test_plans_that_are_no_comings(self):
         root = tree(SEEN)
         right = pure(root, "comer", 0, 1)
-        entries = right.entries()
-        wrong = [
-            Plan(entries[::-1]), Plan(entries[:1]), Plan(entries[1:]), Plan([]),
-            Plan(entries + [((("asked", 5, 2),), ratios("1 0"))]),
-            Plan([entries[0], (entries[1][0], ratios("1/2 1/2"))]),
-            Plan([entries[0], (entries[1][0], ratios("0 1 0"))]),
-            Plan([entries[0], (entries[1][0], ratios("1"))]),
-            Plan([((("asked", 5, 2),), ratios("1 0")), entries[1]]),
-            pure(root, "chooser", 0),
-        ]
         for found in (least_regret(root), greatest_share(root)):
             self.assertHolds(True, found, root=root)
             self.assertHolds(True, found, root=root, weights=found.weights + [(right, Ratio(0))])
-            for other in wrong:
+            for other in no_comings(root, right):
                 for weights in ([(other, Ratio(0))] + found.weights, found.weights + [(other, Ratio(0))]):
                     self.assertHolds(False, found, root=root, weights=weights)
 

@@ -7,10 +7,10 @@ from fractions import Fraction
 from lostleast.least import Found, greatest_share, holds, least_regret, regret_of, share_of
 from lostleast.plans import Answer, Plan, comings, hindsight
 from lostleast.ratio import Ratio
-from lostleast.tree import End, Lot, Move, ends_of, views_of
+from lostleast.tree import End, Lot, Move, ends_of
 from tests.games import SMALL, WITHOUT_SHARE, random_trees
 from tests.helpers import (
-    all_pure, choices, fraction, slow_average, slow_best, slow_hindsights, told, tree, with_ends)
+    all_pure, assert_form, choices, fraction, slow_average, slow_best, slow_hindsights, told, tree, with_ends)
 
 MATCH = "var x 3 var y 3 come x 3 choose y 3 if = x y pay + 1 x end"
 # Eight moves of the comer, and as many answers, each of which is paid something else.
@@ -44,17 +44,7 @@ class LeastTest(unittest.TestCase):
     def assertForm(self, root, found, kind):
         self.assertIsInstance(found, Found)
         self.assertEqual(found.kind, kind)
-        self.assertIsInstance(found.value, Ratio)
-        self.assertIsInstance(found.plan, Plan)
-        self.assertEqual([(view, len(lots)) for view, lots in found.plan.entries()], views_of(root, "chooser"))
-        self.assertIs(type(found.weights), list)
-        self.assertTrue(all(type(pair) is tuple and len(pair) == 2 for pair in found.weights))
-        some = comings(root)
-        places = [some.index(coming) for coming, _ in found.weights]
-        self.assertEqual(places, sorted(set(places)))
-        for _, weight in found.weights:
-            self.assertIsInstance(weight, Ratio)
-            self.assertGreater(weight.num, 0)
+        assert_form(self, root, found)
         self.assertTrue(holds(root, found))
 
     def assertRegret(self, root, value=None):
